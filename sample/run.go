@@ -49,14 +49,14 @@ func Conf(s flow.Sys, pick func(n int) int) conf.Conf {
 		c.Vars = append(c.Vars, vars)
 	}
 	for _, ch := range s.Chans {
-		c.Queues = append(c.Queues, queue(ch, pick))
+		c.Queues = append(c.Queues, anyMessages(ch, pick))
 		c.States = append(c.States, pick(max(len(ch.Rule), 1)))
 	}
 	return c
 }
 
-// queue makes one that is empty, full, or anything else, each often.
-func queue(ch check.Chan, pick func(n int) int) []conf.Msg {
+// anyMessages makes none, as many as there is room for, or any count, each often.
+func anyMessages(ch check.Chan, pick func(n int) int) []conf.Msg {
 	many := []int{0, ch.Size, pick(ch.Size + 1)}[pick(3)]
 	var list []conf.Msg
 	for range many {
