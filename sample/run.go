@@ -24,7 +24,15 @@ func Text(text string) (flow.Sys, api.Errno) {
 // Sys makes a system that is flow.Right, by what pick chooses, and tells also
 // what it was made of.
 func Sys(pick func(n int) int) (flow.Sys, check.Prog) {
-	p := Prog(pick)
+	return built(Prog(pick))
+}
+
+// CalmSys makes likewise one of Calm's.
+func CalmSys(pick func(n int) int) (flow.Sys, check.Prog) {
+	return built(Calm(pick))
+}
+
+func built(p check.Prog) (flow.Sys, check.Prog) {
 	s, err := flow.Build(p)
 	if err != api.OK {
 		// Some process is too long: then none does anything.

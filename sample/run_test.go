@@ -7,6 +7,7 @@ import (
 	"jetsam/api"
 	"jetsam/conf"
 	"jetsam/flow"
+	"jetsam/step"
 )
 
 func TestText(t *testing.T) {
@@ -46,6 +47,31 @@ func TestGraphsAndConfigurationsAreRight(t *testing.T) {
 	}
 	if full < 100 || empty < 100 || ended < 100 {
 		t.Error("too few of one kind:", full, empty, ended)
+	}
+}
+
+// Runs of calm systems go on where those of others end.
+func TestCalmSystemsRunOn(t *testing.T) {
+	random := rand.New(rand.NewSource(9))
+	errors := [2]int{}
+	for range 1000 {
+		other, _ := Sys(random.Intn)
+		calm, p := CalmSys(random.Intn)
+		if !flow.Right(calm) || len(p.Procs) != len(calm.Graphs) {
+			t.Fatal(calm)
+		}
+		for at, s := range []flow.Sys{other, calm} {
+			var script []step.Pick
+			for range 100 {
+				script = append(script, step.Pick{Proc: random.Intn(len(s.Graphs))})
+			}
+			if _, done, _ := step.Run(s, script); done.Kind != 0 {
+				errors[at]++
+			}
+		}
+	}
+	if errors[1] > 400 || errors[1] > errors[0]/2 {
+		t.Error("many errors:", errors)
 	}
 }
 

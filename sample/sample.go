@@ -11,9 +11,10 @@ import (
 const maxDeep = 3
 
 // maker makes the parts of a system by what pick chooses; proc and vars are
-// those of the process that is made.
+// those of the process that is made; calm: of one that runs on for long.
 type maker struct {
 	pick  func(n int) int
+	calm  bool
 	chans []check.Chan
 	proc  int
 	vars  int
@@ -23,18 +24,34 @@ type maker struct {
 // is made by pick, which tells a number from 0 to n-1.
 func Prog(pick func(n int) int) check.Prog {
 	m := maker{pick: pick}
-	procs := 1 + pick(api.MaxProcs)
+	return m.prog()
+}
+
+// Calm makes a system likewise, but one in which there seldom are errors, so
+// that many of its runs are long.
+func Calm(pick func(n int) int) check.Prog {
+	m := maker{pick: pick, calm: true}
+	return m.prog()
+}
+
+func (m *maker) prog() check.Prog {
+	procs := 1 + m.pick(api.MaxProcs)
 	if procs > 1 {
-		for range pick(api.MaxChans + 1) {
+		for range m.pick(api.MaxChans + 1) {
 			m.chans = append(m.chans, m.channel(procs))
 		}
 	}
 	p := check.Prog{Chans: m.chans}
 	for at := range procs {
-		m.proc, m.vars = at, pick(api.MaxVars+1)
+		m.proc, m.vars = at, m.pick(api.MaxVars+1)
 		p.Procs = append(p.Procs, check.Proc{Vars: m.vars, Body: m.body(maxDeep)})
 	}
 	return p
+}
+
+// isCalm: seldom not, of a calm system.
+func (m *maker) isCalm() bool {
+	return m.calm && m.pick(10) > 0
 }
 
 func (m *maker) channel(procs int) check.Chan {
@@ -54,7 +71,11 @@ func (m *maker) rule(tags int) [][]int {
 	for range states {
 		var row []int
 		for range tags {
-			row = append(row, m.pick(states+1)-1)
+			to := m.pick(states+1) - 1
+			if to < 0 && m.isCalm() {
+				to = 0
+			}
+			row = append(row, to)
 		}
 		rows = append(rows, row)
 	}
@@ -91,6 +112,9 @@ func (m *maker) stmt(deep int) check.Stmt {
 			return m.message(kind, at, deep)
 		}
 	}
+	if m.vars > 0 && m.isCalm() {
+		return check.Stmt{Kind: ast.Assign, Var: m.pick(m.vars), E: m.expr(maxDeep)}
+	}
 	return check.Stmt{Kind: ast.Assert, C: m.cond()}
 }
 
@@ -115,6 +139,9 @@ func (m *maker) message(kind, at, deep int) check.Stmt {
 	}
 	st := check.Stmt{Kind: kind, Chan: at}
 	first, arms := m.pick(tags), 1+m.pick(tags)
+	if m.isCalm() {
+		arms = tags
+	}
 	for i := range arms {
 		arm := check.Arm{Tag: (first + i) % tags, Var: m.pick(m.vars), Body: m.body(deep - 1)}
 		st.Arms = append(st.Arms, arm)
@@ -123,20 +150,44 @@ func (m *maker) message(kind, at, deep int) check.Stmt {
 }
 
 func (m *maker) cond() check.Cond {
+	if m.vars > 0 && m.isCalm() {
+		return check.Cond{Op: ast.Eq + m.pick(ast.Ge), L: m.variable(), R: m.expr(1)}
+	}
 	return check.Cond{Op: ast.Eq + m.pick(ast.Ge), L: m.expr(maxDeep - 1), R: m.expr(maxDeep - 1)}
 }
 
 func (m *maker) expr(deep int) check.Expr {
 	kind := ast.Num + m.pick(ast.Mod)
 	switch {
+	case m.vars > 0 && deep > 0 && m.isCalm():
+		return m.near()
 	case kind == ast.Var && m.vars > 0:
-		return check.Expr{Kind: kind, Var: m.pick(m.vars)}
+		return m.variable()
 	case kind <= ast.Var || deep == 0:
-		return check.Expr{Kind: ast.Num, Num: m.number()}
+		return m.num(m.number())
 	case kind == ast.Neg:
 		return check.Expr{Kind: kind, Kids: []check.Expr{m.expr(deep - 1)}}
 	}
 	return check.Expr{Kind: kind, Kids: []check.Expr{m.expr(deep - 1), m.expr(deep - 1)}}
+}
+
+// near makes a number, a variable, or a little more or less than that.
+func (m *maker) near() check.Expr {
+	switch m.pick(4) {
+	case 0:
+		return m.num(m.pick(20))
+	case 1:
+		return m.variable()
+	}
+	return check.Expr{Kind: ast.Add + m.pick(2), Kids: []check.Expr{m.variable(), m.num(m.pick(4))}}
+}
+
+func (m *maker) variable() check.Expr {
+	return check.Expr{Kind: ast.Var, Var: m.pick(m.vars)}
+}
+
+func (m *maker) num(n int) check.Expr {
+	return check.Expr{Kind: ast.Num, Num: n}
 }
 
 func (m *maker) number() int {

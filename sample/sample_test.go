@@ -11,11 +11,14 @@ import (
 func TestSystemsAreRight(t *testing.T) {
 	random := rand.New(rand.NewSource(1))
 	for range 2000 {
-		if p := Prog(random.Intn); !check.Right(p) {
-			t.Fatal(p)
+		for _, p := range []check.Prog{Prog(random.Intn), Calm(random.Intn)} {
+			if !check.Right(p) {
+				t.Fatal(p)
+			}
 		}
 	}
-	for _, p := range []check.Prog{Prog(func(n int) int { return 0 }), Prog(func(n int) int { return n - 1 })} {
+	least, most := func(n int) int { return 0 }, func(n int) int { return n - 1 }
+	for _, p := range []check.Prog{Prog(least), Prog(most), Calm(least), Calm(most)} {
 		if !check.Right(p) {
 			t.Error(p)
 		}
