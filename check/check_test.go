@@ -402,7 +402,7 @@ func TestP4_1_RandomSystems(t *testing.T) {
 	random := rand.New(rand.NewSource(41))
 	for round := 0; round < 3000 && !t.Failed(); round++ {
 		want := sample.Prog(random.Intn)
-		p, err := check.Check(named(want))
+		p, err := check.Check(sample.Named(want))
 		if err != api.OK || !same(p, want) {
 			t.Errorf("%d, %v, want %v", err, p, want)
 		}

@@ -174,7 +174,7 @@ func TestP4_1_Right(t *testing.T) {
 		if check.Right(p) != x.right {
 			t.Error(x.what)
 		}
-		if back, err := check.Check(named(p)); (err == api.OK && same(back, p)) != x.right {
+		if back, err := check.Check(sample.Named(p)); (err == api.OK && same(back, p)) != x.right {
 			t.Error(x.what, "isn't what Check tells:", err)
 		}
 	}
@@ -218,7 +218,7 @@ func TestP4_1_RightIsWhatCheckTells(t *testing.T) {
 		for range 1 + random.Intn(2) {
 			spoil(random, reflect.ValueOf(&p).Elem())
 		}
-		back, err := check.Check(named(p))
+		back, err := check.Check(sample.Named(p))
 		want := err == api.OK && same(back, p)
 		if check.Right(p) != want {
 			t.Errorf("%v: Right %v, Check tells %d, %v", p, !want, err, back)
@@ -234,11 +234,11 @@ func TestP4_2_WhatCheckTellsIsRight(t *testing.T) {
 	random := rand.New(rand.NewSource(43))
 	told := map[api.Errno]int{}
 	for round := 0; round < 20000 && !t.Failed(); round++ {
-		s := named(sample.Prog(random.Intn))
+		s := sample.Named(sample.Prog(random.Intn))
 		if round%4 > 0 {
 			p := sample.Prog(random.Intn)
 			spoil(random, reflect.ValueOf(&p).Elem())
-			s = named(p)
+			s = sample.Named(p)
 		}
 		p, err := check.Check(s)
 		told[err]++

@@ -95,7 +95,7 @@ func anySystem(t *testing.T, random *rand.Rand) flow.Sys {
 	case 4:
 		return system(t, vain(random.Intn(8), random.Intn(8), random.Intn(8), random.Intn(4)))
 	}
-	return system(t, ring(random))
+	return system(t, sample.Ring(random.Intn))
 }
 
 // vain writes a text in which p may send the less, the more it may be sent:
@@ -108,50 +108,6 @@ func vain(first, other, most, more int) string {
 		text = strings.ReplaceAll(text, name, strconv.Itoa(n))
 	}
 	return text
-}
-
-// ring writes a text of processes each of which sends to the next one.
-func ring(random *rand.Rand) string {
-	many := 2 + random.Intn(3)
-	var text, rules strings.Builder
-	for at := range many {
-		from, to := strconv.Itoa(at), strconv.Itoa((at+1)%many)
-		kind := []string{"block", "drop", "lossy"}[random.Intn(3)]
-		text.WriteString("chan c" + from + " " + kind + " " + strconv.Itoa(1+random.Intn(3)) + " from p" + from + " to p" + to + " { a , b } ; ")
-		if random.Intn(2) == 0 {
-			rules.WriteString("rule c" + from + " { 0 a 1 ; 0 b 0 ; 1 a " + strconv.Itoa(random.Intn(3)) + " ; 1 b 1 ; 2 b 2 ; } ")
-		}
-	}
-	text.WriteString(rules.String())
-	for at := range many {
-		own, ahead := "c"+strconv.Itoa(at), "c"+strconv.Itoa((at+many-1)%many)
-		text.WriteString("proc p" + strconv.Itoa(at) + " { var x ; var y ; ")
-		if random.Intn(3) == 0 {
-			text.WriteString("send " + own + " . a ( " + strconv.Itoa(random.Intn(5)) + " ) ; ")
-		}
-		text.WriteString("while ( 0 == 0 ) { recv " + ahead + " { a ( x ) { " + answer(own, random) + "} ")
-		if random.Intn(4) > 0 {
-			text.WriteString("b ( x ) { " + answer(own, random) + "} ")
-		}
-		text.WriteString("} } } ")
-	}
-	return text.String()
-}
-
-// answer writes what is done with x, when it was taken.
-func answer(own string, random *rand.Rand) string {
-	parts := []string{
-		"send OWN . a ( x ) ; ", "send OWN . b ( x + 1 ) ; ", "send OWN . a ( x - 1 ) ; ",
-		"send OWN . a ( x / 2 + 10 ) ; ", "send OWN . b ( 7 ) ; ", "send OWN . b ( y ) ; ",
-		"if ( x < 20 ) { send OWN . a ( x + 1 ) ; } ", "if ( x > 3 ) { y = 3 ; } else { y = x ; } ",
-		"if ( x > 5 ) { x = 5 ; } while ( x < 5 ) { x = x + 1 ; } ", "y = y + 1 ; ", "if ( x >= 0 ) { y = x % 7 ; } ",
-		"if ( x != 20 ) { send OWN . b ( y ) ; } ", "assert ( x < 100 ) ; ", "y = 100 / x ; ", "input y ; ",
-	}
-	var text strings.Builder
-	for range 1 + random.Intn(3) {
-		text.WriteString(strings.ReplaceAll(parts[random.Intn(len(parts))], "OWN", own))
-	}
-	return text.String()
 }
 
 // without tells a list without one of its parts.
